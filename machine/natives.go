@@ -43,8 +43,8 @@ const (
 	nativeIterator
 )
 
-// keys are those under which natives are laid, by their numbers.
-var keys = [...]string{
+// nativeNames are the keys under which natives are laid, by their numbers.
+var nativeNames = [...]string{
 	nativeCreate:            "create",
 	nativeGetPrototypeOf:    "getPrototypeOf",
 	nativeSetPrototypeOf:    "setPrototypeOf",
@@ -250,8 +250,8 @@ func (m *Machine) greatest(args []api.Word, turned func(x uint64) uint64) uint64
 	for _, w := range args {
 		x := turned(m.number(w))
 		switch {
-		case soft.IsNaN(x) || soft.IsNaN(most):
-			most = none
+		case soft.IsNaN(x):
+			most = none // to which nothing that comes behind it is held
 		case soft.Less(most, x), soft.Equal(most, x) && most == minusZero:
 			most = x
 		}

@@ -70,7 +70,7 @@ func (m *Machine) layNatives() {
 // lay lays natives at an object, each under its own key.
 func (m *Machine) lay(at api.Word, numbers ...int) {
 	for _, number := range numbers {
-		m.put(at, keys[number], m.newNative(number), hidden)
+		m.put(at, nativeNames[number], m.newNative(number), hidden)
 	}
 }
 

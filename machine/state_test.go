@@ -78,6 +78,7 @@ func TestStateTells(t *testing.T) {
 		}
 	}
 	m, n := stopped(t), stopped(t)
+	seen := map[string]string{stateOf(m): "nothing"}
 	for what, do := range map[string]func(m *machine.Machine){
 		"a register": func(m *machine.Machine) { m.SetReg(0, word.Int(77)) },
 		"-0":         func(m *machine.Machine) { m.SetReg(0, minus0) },
@@ -116,9 +117,10 @@ func TestStateTells(t *testing.T) {
 		m, n := stopped(t), stopped(t)
 		was := stateOf(m)
 		do(m)
-		if stateOf(m) == was {
-			t.Error("State does not tell", what)
+		if other, ok := seen[stateOf(m)]; ok {
+			t.Errorf("State does not tell %s from %s", what, other)
 		}
+		seen[stateOf(m)] = what
 		if stateOf(n) != was {
 			t.Error("another machine's State tells", what)
 		}
@@ -199,5 +201,38 @@ func TestStateOfWhatWaits(t *testing.T) {
 	}
 	if called(1, 0, 1) != called(1, 0, 1) || thrown(3) != thrown(3) {
 		t.Error("State tells more than the state")
+	}
+}
+
+// P17.3: a generator that has not begun is another one than one that waits at its first instruction, though all else is made the same by hand.
+func TestStateOfBegun(t *testing.T) {
+	p := api.Program{Funcs: []api.Func{
+		{Regs: 6, Consts: []api.Const{{IsText: true, Text: "next"}}, Code: []api.Instr{
+			{Op: api.OpClosure, A: 1, B: 1}, {Op: api.OpCall, A: 0, B: 1}, {Op: api.OpGetNamed, A: 2}, {Op: api.OpMove, A: 3}, {Op: api.OpCall, A: 4, B: 2}, {Op: api.OpReturn},
+		}},
+		{Regs: 2, Generator: true, Code: []api.Instr{{Op: api.OpYield, B: 1}, {Op: api.OpReturn}}},
+	}}
+	begun, fresh := of(t, p), of(t, p)
+	run(begun, 6)
+	run(fresh, 4)
+	fresh.Skip()
+	fresh.Jump(5)
+	h := fresh.Heap()
+	o, _ := h.Make(api.KindPlain, begun.Heap().Proto(begun.Reg(4)))
+	h.Put(o, "value", api.Desc{Value: word.Undefined, Set: word.Undefined, Flags: 7})
+	h.Put(o, "done", api.Desc{Value: word.False, Set: word.Undefined, Flags: 7})
+	fresh.SetReg(4, o)
+	if begun.Pc() != 5 || begun.Reg(4) != o || begun.Count() != fresh.Count() {
+		t.Fatal(begun.Pc(), begun.Count(), fresh.Count())
+	}
+	a, b := begun.State(), fresh.State()
+	unlikes := 0
+	for i := range a {
+		if a[i] != b[i] {
+			unlikes++
+		}
+	}
+	if len(a) != len(b) || unlikes != 1 {
+		t.Error(unlikes, "lines are unlike")
 	}
 }

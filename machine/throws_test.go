@@ -22,6 +22,7 @@ func TestThrows(t *testing.T) {
 		{`throw new TypeError();`, "", "thrown TypeError: "},
 		{`let e = new Error("a"); e.name = {}; e.message = 5; throw e;`, "", "thrown : 5"},
 		{`let e = new Error("a"); Object.defineProperty(e, "message", {get: print}); e.name = null; throw e;`, "", "thrown null: "},
+		{`let e = new Error("a"); Object.defineProperty(e, "message", {set: print}); throw e;`, "", "thrown Error: "},
 		{`let e = new Error("a"); Object.setPrototypeOf(e, null); print(e); delete e.message; throw e;`, ": a", "thrown : "},
 		{`function f() { throw "f"; } function* g() { yield f(); } for (const x of g()) { }`, "", "thrown f"},
 		{`let o = {x: 1}; try { o.y.z; } catch (e) { print(e); } o.y.z();`, "TypeError: read z", "thrown TypeError: read z"},
